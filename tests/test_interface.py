@@ -1,0 +1,85 @@
+"""The interface at the end of the document: the names, where they are defined, and their arguments."""
+
+import ast
+import importlib
+import inspect
+import pathlib
+import unittest
+
+PACKAGE = pathlib.Path(__file__).resolve().parent.parent / "heldback"
+
+# For each file its classes, for each class its methods, for each of these the parameters (None: those of Python).
+CLASSES = {
+    "parts": {
+        "Part": {
+            "__init__": ["steps"], "steps": [], "cells": [], "words": [], "faults": [], "replaced": ["path", "steps"],
+            "__getitem__": None, "__len__": [], "__eq__": None, "__add__": None, "__mul__": None, "__rmul__": None,
+            "__or__": None, "__call__": ["cells=None"],
+        },
+    },
+    "runs": {
+        "Run": {
+            "__init__": ["part", "cells=None"], "answer": [], "said": [], "cells": [], "twin": [], "trial": ["work"],
+            "ended": [], "__getitem__": None, "__setitem__": None,
+        },
+    },
+}
+ERRORS = {
+    "HeldError": None, "BadPart": ["path"], "NoPath": ["path"], "NotName": ["key"], "NotNumber": ["value"],
+    "NotTruth": ["value"], "BadUse": ["index"], "Over": [], "Uncaught": ["word"], "NoAnswer": [], "BadWish": [],
+    "NoSave": ["save"], "NoSquare": ["square"], "UnlikeTables": [], "NoWay": ["way"], "Uneven": ["way"],
+    "BadPile": ["index"], "NoRule": ["rule"], "NoFit": ["rule", "path"], "BadText": ["line"],
+}
+
+
+def tree_of(name):
+    return ast.parse((PACKAGE / (name + ".py")).read_text(encoding="utf-8"))
+
+
+def defined(body, kind):
+    return {node.name: node for node in body if isinstance(node, kind)}
+
+
+def parameters(function):
+    """The parameters of a function, without the first one of a method, defaults written behind them."""
+    told = []
+    for parameter in list(inspect.signature(function).parameters.values())[1:]:
+        default = "" if parameter.default is parameter.empty else f"={parameter.default!r}"
+        told.append(parameter.name + default)
+    return told
+
+
+class TestInterface(unittest.TestCase):
+
+    def test_classes_and_methods(self):
+        for name, classes in CLASSES.items():
+            module = importlib.import_module("heldback." + name)
+            written = defined(tree_of(name).body, ast.ClassDef)
+            for title, methods in classes.items():
+                rows = defined(written[title].body, ast.FunctionDef)
+                for method, expected in methods.items():
+                    with self.subTest(title, method=method):
+                        self.assertIn(method, rows)
+                        self.assertIn(method, vars(getattr(module, title)))
+                        found = vars(getattr(module, title))[method]
+                        if isinstance(found, property):
+                            found = found.fget
+                        if expected is not None:
+                            self.assertEqual(parameters(found), expected)
+
+    def test_ended_is_a_property(self):
+        run = importlib.import_module("heldback.runs").Run
+        self.assertIsInstance(vars(run)["ended"], property)
+        self.assertIsNone(vars(run)["ended"].fset)
+
+    def test_errors(self):
+        module = importlib.import_module("heldback.errors")
+        written = defined(tree_of("errors").body, ast.ClassDef)
+        self.assertEqual(set(written), set(ERRORS))
+        for title, expected in ERRORS.items():
+            if expected is not None:
+                self.assertEqual(parameters(vars(getattr(module, title))["__init__"]), expected)
+
+
+if __name__ == "__main__":
+    unittest.main()
