@@ -24,6 +24,13 @@ CLASSES = {
         },
     },
 }
+# For each file its functions with their parameters.
+FUNCTIONS = {
+    "uses": {"outcomes": ["part", "use"]},
+    "trees": {"tree": ["part"], "followed": ["nodes", "use"]},
+    "likeness": {"alike": ["one", "other"], "parting": ["one", "other"]},
+    "frames": {"filled": ["frame", "part"], "framing": ["one", "other"]},
+}
 ERRORS = {
     "HeldError": None, "BadPart": ["path"], "NoPath": ["path"], "NotName": ["key"], "NotNumber": ["value"],
     "NotTruth": ["value"], "BadUse": ["index"], "Over": [], "Uncaught": ["word"], "NoAnswer": [], "BadWish": [],
@@ -41,9 +48,13 @@ def defined(body, kind):
 
 
 def parameters(function):
-    """The parameters of a function, without the first one of a method, defaults written behind them."""
+    """The parameters of a method but the first one, defaults written behind them."""
+    return all_parameters(function)[1:]
+
+
+def all_parameters(function):
     told = []
-    for parameter in list(inspect.signature(function).parameters.values())[1:]:
+    for parameter in inspect.signature(function).parameters.values():
         default = "" if parameter.default is parameter.empty else f"={parameter.default!r}"
         told.append(parameter.name + default)
     return told
@@ -66,6 +77,15 @@ class TestInterface(unittest.TestCase):
                             found = found.fget
                         if expected is not None:
                             self.assertEqual(parameters(found), expected)
+
+    def test_functions(self):
+        for name, functions in FUNCTIONS.items():
+            module = importlib.import_module("heldback." + name)
+            written = defined(tree_of(name).body, ast.FunctionDef)
+            for title, expected in functions.items():
+                with self.subTest(title):
+                    self.assertIn(title, written)
+                    self.assertEqual(all_parameters(getattr(module, title)), expected)
 
     def test_ended_is_a_property(self):
         run = importlib.import_module("heldback.runs").Run
