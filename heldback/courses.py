@@ -36,14 +36,19 @@ class Course:
         return [(cell, self.store[cell]) for cell in sorted(self.store)]
 
 
-def course_of(rows, cells):
-    """The course of a run of the steps that has not begun."""
+def store_of(rows, cells):
+    """The dict of the values that cells have at the beginning; cells are those that are set, or None."""
     if cells is not None and not is_setting(cells):
         raise BadUse(0)
     store = {cell: 0 for cell in cells_in(rows)}
     if cells is not None:
         store.update(cells)
-    return Course(in_front(rows, None), store)
+    return store
+
+
+def course_of(rows, cells):
+    """The course of a run of the steps that has not begun."""
+    return Course(in_front(rows, None), store_of(rows, cells))
 
 
 def in_front(things, rest):

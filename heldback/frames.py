@@ -3,7 +3,7 @@
 from heldback.kinds import LETTERS
 from heldback.likeness import parting
 from heldback.parts import Part
-from heldback.steps import FORMS
+from heldback.steps import rebuilt
 from heldback.uses import outcomes
 
 ANSWER = ("answer",)
@@ -12,21 +12,8 @@ NONE = ("none",)
 
 def filled(frame, part):
     """The frame with the steps of the part in the place of each hole."""
-    return Part(filled_rows(frame.steps(), part.steps()))
-
-
-def filled_rows(rows, others):
-    """The rows with others in the place of each hole at all depths."""
-    made = []
-    for step in rows:
-        made.extend(others if step[0] == "hole" else [filled_step(step, others)])
-    return tuple(made)
-
-
-def filled_step(step, others):
-    """The step with others in the place of each hole in its lists."""
-    items = [filled_rows(item, others) if kind == "list" else item for kind, item in zip(FORMS[step[0]], step[1:])]
-    return (step[0], *items)
+    others = part.steps()
+    return Part(rebuilt(frame.steps(), lambda path, step: others if step[0] == "hole" else (step,)))
 
 
 def framing(one, other):

@@ -96,14 +96,20 @@ def frozen(thing):
     return thing
 
 
+def paths_in(rows, ahead=()):
+    """The ascending list of the pairs (path, step) of the steps at all depths."""
+    found = []
+    for at, step in enumerate(rows):
+        path = (*ahead, at)
+        found.append((path, step))
+        for number, inner in enumerate(lists_of(step)):
+            found.extend(paths_in(inner, (*path, number)))
+    return found
+
+
 def all_steps(rows):
     """The list of the steps at all depths, each one ahead of those in its lists."""
-    found = []
-    for step in rows:
-        found.append(step)
-        for inner in lists_of(step):
-            found.extend(all_steps(inner))
-    return found
+    return [step for path, step in paths_in(rows)]
 
 
 def all_items(rows, wanted):
@@ -140,20 +146,55 @@ def step_at(rows, path):
     return step
 
 
-def with_list(step, number, rows):
-    """The step with rows in the place of its list of this number."""
-    places = [at for at, kind in enumerate(FORMS[step[0]], start=1) if kind == "list"]
-    place = places[number]
-    return step[:place] + (rows,) + step[place + 1:]
+def with_lists(step, lists):
+    """The step with these lists in the place of its own."""
+    # In each kind of step its lists stand last.
+    return step[:len(step) - len(lists)] + tuple(lists)
+
+
+def held_in(step):
+    """The tuple of the cells that a step holds; empty for a step that has no held."""
+    return items_of(step, "held")[0] if "held" in FORMS[step[0]] else ()
+
+
+def with_held(step, cells):
+    """The step with these cells in the place of those that it holds, if it has a held."""
+    if "held" not in FORMS[step[0]]:
+        return step
+    place = FORMS[step[0]].index("held") + 1
+    return step[:place] + (tuple(cells),) + step[place + 1:]
+
+
+def tail_at(rows, path):
+    """The step at a path that the rows have, and the steps behind it in its list."""
+    if len(path) == 1:
+        return rows[path[0]:]
+    return tail_at(lists_of(rows[path[0]])[path[1]], path[2:])
+
+
+def with_tail(rows, path, tail):
+    """The rows with a tail in the place of the step at a path that they have, and of those behind it in its list."""
+    at = path[0]
+    if len(path) == 1:
+        return rows[:at] + tail
+    lists = lists_of(rows[at])
+    lists[path[1]] = with_tail(lists[path[1]], path[2:], tail)
+    return rows[:at] + (with_lists(rows[at], lists),) + rows[at + 1:]
 
 
 def with_rows(rows, path, others):
     """The rows with others in the place of the step at a path that they have."""
-    at = path[0]
-    if len(path) == 1:
-        return rows[:at] + others + rows[at + 1:]
-    inner = with_rows(lists_of(rows[at])[path[1]], path[2:], others)
-    return rows[:at] + (with_list(rows[at], path[1], inner),) + rows[at + 1:]
+    return with_tail(rows, path, others + tail_at(rows, path)[1:])
+
+
+def rebuilt(rows, change, ahead=()):
+    """The rows with the steps change(path, step) in the place of each step, whose lists were rebuilt before."""
+    made = []
+    for at, step in enumerate(rows):
+        path = (*ahead, at)
+        lists = [rebuilt(inner, change, (*path, number)) for number, inner in enumerate(lists_of(step))]
+        made.extend(change(path, with_lists(step, lists)))
+    return tuple(made)
 
 
 def either_of_each(step):

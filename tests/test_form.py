@@ -229,6 +229,8 @@ class TestForm(unittest.TestCase):
                         self.assertEqual(told, ["self", "at"])
                     elif row.name == "__setitem__":
                         self.assertEqual(told, ["self", "at", "worth"])
+                    elif row.name == "__contains__":
+                        self.assertEqual(told, ["self", "x"])
                     elif row.name in ("__len__", "__iter__", "__repr__", "__str__"):
                         self.assertEqual(told, ["self"])
                     elif row.name not in ("__init__", "__call__"):

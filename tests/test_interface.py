@@ -23,6 +23,14 @@ CLASSES = {
             "ended": [], "__getitem__": None, "__setitem__": None,
         },
     },
+    "tables": {
+        "Table": {
+            "__init__": ["cells", "ways", "squares=()"], "cells": [], "ways": [], "squares": [], "twin": [],
+            "within": ["other"], "__getitem__": None, "__setitem__": None, "__contains__": None, "__len__": [],
+            "__eq__": None, "__or__": None, "__and__": None, "__sub__": None, "__xor__": None, "__ior__": None,
+            "__iand__": None, "__isub__": None, "__ixor__": None,
+        },
+    },
 }
 # For each file its functions with their parameters.
 FUNCTIONS = {
@@ -30,6 +38,10 @@ FUNCTIONS = {
     "trees": {"tree": ["part"], "followed": ["nodes", "use"]},
     "likeness": {"alike": ["one", "other"], "parting": ["one", "other"]},
     "frames": {"filled": ["frame", "part"], "framing": ["one", "other"]},
+    "wishes": {"fulfilled": ["part", "wish"], "dead": ["part"], "most_answers": ["part"]},
+    "saves": {"saves": ["part"], "keeping": ["part", "kept"], "needless": ["part"], "least_saves": ["part"]},
+    "tables": {"by_table": ["part", "table"], "table_of": ["part"], "matters": ["part", "table"]},
+    "piles": {"of_pile": ["layers"], "piled": ["table"], "crossing": ["table"]},
 }
 ERRORS = {
     "HeldError": None, "BadPart": ["path"], "NoPath": ["path"], "NotName": ["key"], "NotNumber": ["value"],
