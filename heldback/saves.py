@@ -1,7 +1,7 @@
 """Saves: the cells that single steps put back, and which of them a part needs."""
 
 from heldback.errors import NoSave
-from heldback.kinds import is_list
+from heldback.kinds import is_list, is_name
 from heldback.likeness import alike
 from heldback.parts import Part
 from heldback.steps import held_in, is_path, paths_in, rebuilt, with_held
@@ -14,17 +14,17 @@ def saves(part):
 
 def keeping(part, kept):
     """The part in which each held has only those of its cells whose saves are kept."""
-    own = saves(part)
+    own = {save: True for save in saves(part)}
     for thing in kept:
         if not is_save(own, thing):
             raise NoSave(thing)
-    pairs = [(tuple(path), cell) for path, cell in kept]
+    pairs = {(tuple(path), cell): True for path, cell in kept}
     return Part(rebuilt(part.steps(), lambda path, step: (with_kept(path, step, pairs),)))
 
 
 def is_save(own, thing):
     """Tells whether an object is one of the saves."""
-    if not is_list(thing) or len(thing) != 2 or not is_path(thing[0]):
+    if not is_list(thing) or len(thing) != 2 or not is_path(thing[0]) or not is_name(thing[1]):
         return False
     return (tuple(thing[0]), thing[1]) in own
 

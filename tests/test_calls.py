@@ -4,13 +4,17 @@ import itertools
 import unittest
 
 from heldback import errors
+from heldback.codes import code
 from heldback.frames import filled, framing
 from heldback.likeness import alike, parting
+from heldback.machines import Machine
 from heldback.parts import Part
 from heldback.piles import crossing, of_pile, piled
+from heldback.rules import fitting, rewritten, short
 from heldback.runs import Run
 from heldback.saves import keeping, least_saves, needless, saves
 from heldback.tables import Table, by_table, matters, table_of
+from heldback.texts import read, text
 from heldback.trees import followed, tree
 from heldback.uses import outcomes
 from heldback.wishes import dead, fulfilled, most_answers
@@ -41,6 +45,12 @@ FUNCTIONS = [
     (of_pile, {"layers": [("way", "w"), ("cell", "c")]}),
     (piled, {"table": TABLE}),
     (crossing, {"table": TABLE}),
+    (code, {"part": PART}),
+    (rewritten, {"part": PART, "rule": "spread", "path": (0,)}),
+    (fitting, {"part": PART}),
+    (short, {"part": PART}),
+    (text, {"part": PART}),
+    (read, {"written": "either c\n  back\nor\n  say x"}),
 ]
 # Each class, the arguments of a call by their names, and what tells of an object.
 CLASSES = [
@@ -48,6 +58,7 @@ CLASSES = [
     (Run, {"part": PART, "cells": {"c": 4}}, lambda run: (run.answer(), run.cells(), run.said())),
     (Table, {"cells": ["c", "d"], "ways": ["w"], "squares": [("c", "w")]},
      lambda table: (table.cells(), table.ways(), table.squares())),
+    (Machine, {"part": PART, "cells": {"c": 4}}, lambda machine: (machine.answer(), machine.cells(), machine.said())),
 ]
 # Methods of an object: how it is made, its method, the arguments by their names.
 METHODS = [
@@ -55,7 +66,8 @@ METHODS = [
     (lambda: PART, "replaced", {"path": (0, 1, 0), "steps": [("say", "z")]}), (lambda: PART, "__call__", {"cells": {"c": 7}}),
     (lambda: Run(PART), "answer", {}), (lambda: Run(PART), "said", {}), (lambda: Run(PART, {"c": 1}), "cells", {}),
     (lambda: Run(PART), "trial", {"work": lambda run: run.answer()}),
-    (lambda: TABLE.twin(), "cells", {}), (lambda: TABLE.twin(), "ways", {}), (lambda: TABLE.twin(), "squares", {}),
+    (lambda: Machine(PART), "answer", {}), (lambda: Machine(PART), "said", {}), (lambda: Machine(PART, {"c": 1}), "cells", {}),
+    (lambda: Machine(PART), "trail", {}), (lambda: TABLE.twin(), "cells", {}), (lambda: TABLE.twin(), "ways", {}), (lambda: TABLE.twin(), "squares", {}),
     (lambda: TABLE.twin(), "twin", {}), (lambda: TABLE.twin(), "within", {"other": TABLE}),
 ]
 ERRORS = {
@@ -87,6 +99,12 @@ class TestCalls(unittest.TestCase):
                 expected = tell(made(*arguments.values()))
                 for given in orders(arguments):
                     self.assertEqual(tell(made(**given)), expected)
+
+    def test_a_machine_with_a_trail(self):
+        for given in orders({"part": PART, "cells": {"c": 4}, "trail": True}):
+            machine = Machine(**given)
+            machine["c"] = 5
+            self.assertEqual(machine.trail(), [("c", 4)])
 
     def test_methods(self):
         for make, method, arguments in METHODS:

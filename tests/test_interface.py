@@ -31,6 +31,12 @@ CLASSES = {
             "__iand__": None, "__isub__": None, "__ixor__": None,
         },
     },
+    "machines": {
+        "Machine": {
+            "__init__": ["part", "cells=None", "trail=False"], "answer": [], "said": [], "cells": [], "trail": [],
+            "ended": [], "__getitem__": None, "__setitem__": None,
+        },
+    },
 }
 # For each file its functions with their parameters.
 FUNCTIONS = {
@@ -42,6 +48,9 @@ FUNCTIONS = {
     "saves": {"saves": ["part"], "keeping": ["part", "kept"], "needless": ["part"], "least_saves": ["part"]},
     "tables": {"by_table": ["part", "table"], "table_of": ["part"], "matters": ["part", "table"]},
     "piles": {"of_pile": ["layers"], "piled": ["table"], "crossing": ["table"]},
+    "codes": {"code": ["part"]},
+    "rules": {"rewritten": ["part", "rule", "path"], "fitting": ["part"], "short": ["part"]},
+    "texts": {"text": ["part"], "read": ["written"]},
 }
 ERRORS = {
     "HeldError": None, "BadPart": ["path"], "NoPath": ["path"], "NotName": ["key"], "NotNumber": ["value"],
@@ -100,9 +109,14 @@ class TestInterface(unittest.TestCase):
                     self.assertEqual(all_parameters(getattr(module, title)), expected)
 
     def test_ended_is_a_property(self):
-        run = importlib.import_module("heldback.runs").Run
-        self.assertIsInstance(vars(run)["ended"], property)
-        self.assertIsNone(vars(run)["ended"].fset)
+        for title, name in (("Run", "runs"), ("Machine", "machines")):
+            found = vars(getattr(importlib.import_module("heldback." + name), title))["ended"]
+            self.assertIsInstance(found, property)
+            self.assertIsNone(found.fset)
+
+    def test_the_trail_is_passed_by_name_only(self):
+        made = importlib.import_module("heldback.machines").Machine
+        self.assertEqual(inspect.signature(made).parameters["trail"].kind, inspect.Parameter.KEYWORD_ONLY)
 
     def test_errors(self):
         module = importlib.import_module("heldback.errors")
