@@ -85,7 +85,7 @@ def soonest(node, wish, bounds, at):
     if node[0] == "if":
         below, beyond = sides(bounds, node[1], node[2], node[3])
         found = [soonest(node[4], wish, below, at), soonest(node[5], wish, beyond, at)]
-        return min([pair for pair in found if pair is not None], key=lambda pair: pair[0], default=None)
+        return min([pair for pair in found if pair is not None], key=lambda row: row[0], default=None)
     met = where_met(node, wish, bounds, at)
     if met is not None:
         return (at, met)

@@ -109,6 +109,9 @@ UNLIKE = [
     ([], [("less", "c", 1, [("less", "c", 0, [], [("set", "c", 1)])], [])], 1),
     ([], [("below", "c", "d", 4, [("below", "c", "d", 3, [], [("back",)])], [])], 1),
     ([("less", "c", 3, [("set", "d", 0)], [("set", "d", 1)])], [("less", "c", 3, [("set", "d", 0)], [])], 1),
+    # A cell that is told in two ways but is always the same, and behind it one that is not.
+    ([("less", "c", 1, [("less", "c", 0, [("back",)], [])], [("back",)])],
+     [("less", "c", 1, [("less", "c", 0, [("back",)], [("set", "c", 0), ("add", "d", 1)])], [("back",)])], 1),
     # Held cells: the one that a choice puts back is another one, or is not put back.
     ([("either", ["c"], [("add", "c", 1)], [])], [("either", [], [("add", "c", 1)], [])], 2),
     ([("either", ["c"], [], [])], [("either", [], [], [])], 2),

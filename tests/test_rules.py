@@ -417,7 +417,7 @@ class TestFitting(unittest.TestCase):
 
     def test_many_parts(self):
         found = {}
-        for seed in range(800):
+        for seed in range(550):
             with self.subTest(seed=seed):
                 maker = Maker(seed)
                 steps = simple_part(maker)
@@ -514,7 +514,7 @@ class TestShort(unittest.TestCase):
 
     def test_many_parts(self):
         applied = {}
-        for seed in range(700):
+        for seed in range(450):
             with self.subTest(seed=seed):
                 steps = simple_part(Maker(seed))
                 pairs = []

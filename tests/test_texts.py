@@ -114,7 +114,7 @@ class TestText(TextTest):
         self.check(steps, *text_again(steps).split("\n"))
 
     def test_many_parts(self):
-        for seed in range(1500):
+        for seed in range(800):
             steps = Maker(seed).part()
             self.check(steps, *(text_again(steps).split("\n") if steps else []))
 
