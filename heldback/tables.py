@@ -16,12 +16,17 @@ class Table:
                 raise NotName(key)
         self.cell_names = sorted(set(cells))
         self.way_names = sorted(set(ways))
-        # All squares in ascending order, and whether they are put back.
-        self.board = {(cell, way): False for cell in self.cell_names for way in self.way_names}
+        # The operators make tables, and may change no item of what an object holds: a new dict gets the squares.
+        board = {}
+        for cell in self.cell_names:
+            for way in self.way_names:
+                board[cell, way] = False
         for square in squares:
-            if not is_square(self.board, square):
+            if not is_square(board, square):
                 raise NoSquare(square)
-            self.board[square[0], square[1]] = True
+            board[square[0], square[1]] = True
+        # All squares in ascending order, and whether they are put back.
+        self.board = board
 
     def cells(self):
         """The ascending list of the cells."""
